@@ -1,0 +1,1 @@
+"""Sixasone: one order of webs by six measures."""

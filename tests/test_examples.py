@@ -1,0 +1,193 @@
+"""The examples of the document, as they stand there, for the points that have landed."""
+
+import unittest
+
+# Each block is run by itself; a block has what the blocks that it names imported and bound.
+RATIOS = """
+>>> from sixasone.ratios import Ratio
+>>> half = Ratio(2, 4)
+>>> [str(half), half.top, half + 1, 2 - half, half * half, half.over(3), -half]
+['1/2', 1, Ratio(3/2), Ratio(3/2), Ratio(1/4), Ratio(1/6), Ratio(-1/2)]
+>>> [Ratio(7, 2) // 1, Ratio(7, 2) % 1, -half // 1, -half % 1, 2 // half, abs(-half) == half, half == 1, 0 < half < 1]
+[3, Ratio(1/2), -1, Ratio(1/2), 4, True, False, True]
+>>> [Ratio.endless() + 3, half.over(Ratio.endless()), Ratio.total([1, half]), Ratio.least([]), Ratio.greatest([half, 2])]
+[Ratio(endless), Ratio(0), Ratio(3/2), Ratio(endless), Ratio(2)]
+>>> 0 * Ratio.endless()
+raises NoRatio()
+>>> [Ratio.read("-3/4"), Ratio.read("6/4"), Ratio.read("0/7"), Ratio.read("endless").is_endless]
+[Ratio(-3/4), Ratio(3/2), Ratio(0), True]
+>>> Ratio.read("2/0")
+raises BadText(2)
+>>> Ratio.read("03")
+raises BadText(1)
+>>> Ratio.read("-0")
+raises BadText(1)
+>>> Ratio.read("3/")
+raises BadText(2)
+>>> Ratio.read("endles")
+raises BadText(6)
+>>> Ratio.read("endlessx")
+raises BadText(7)
+"""
+
+WEBS = """
+>>> from sixasone.webs import Web
+>>> web = "a" & (Web.row("b", "c") | "d") & "e"
+>>> [str(web), web.kind, len(web), web.links]
+['(a & ((b & c) | d) & e)', 'row', 5, (('a', 0, 2), ('b', 2, 4), ('c', 3, 4), ('d', 2, 3), ('e', 1, 3))]
+>>> [str(~web), str(-web), str(web - "d"), str(web // "d"), web - "a" == Web.never()]
+['(a | ((b | c) & d) | e)', '(e & ((c & b) | d) & a)', '(a & b & c & e)', '(a & e)', True]
+>>> bridge = Web.net([("a", 0, 2), ("b", 0, 3), ("m", 3, 2), ("c", 2, 1), ("d", 3, 1)])
+>>> [str(bridge), str(bridge // "a"), (bridge // "a" // "c").kind]
+['[0-a-2 0-b-3 1-c-2 1-d-3 2-m-3]', '[0-b-3 0-c-1 1-d-3 0-m-3]', 'open']
+>>> [bridge.put("m", Web.row("x", "y")).links[4:], bridge.put("m", "a").is_plain]
+[(('x', 2, 4), ('y', 3, 4)), False]
+>>> (bridge & "z").links
+(('a', 0, 3), ('b', 0, 4), ('c', 2, 3), ('d', 2, 4), ('m', 3, 4), ('z', 1, 2))
+>>> [str(Web.net([("a", 0, 2), ("a", 2, 0), ("b", 2, 1)]) // "a"), Web.row("a", Web.never()).names]
+['[0-b-1]', ()]
+>>> Web.net([("a", 0, 1), ("b", 0, 100)])
+raises BadWeb(1)
+>>> ~bridge
+raises NotTied()
+"""
+
+WAYS = """
+>>> from sixasone.ways import joined, walk_of, way_in, ways
+>>> from sixasone.cuts import cut_in, cuts
+>>> from sixasone.idles import bare, idle
+>>> [list(ways(bridge)), list(cuts(bridge))[:2]]
+[[('a', 'c'), ('b', 'd'), ('a', 'd', 'm'), ('b', 'c', 'm')], [('a', 'b'), ('c', 'd')]]
+>>> [joined(bridge, ["a", "m", "d"]), joined(bridge, ["a", "m"]), way_in(bridge, ["m", "d", "a", "c"])]
+[True, False, ('a', 'c')]
+>>> [walk_of(bridge, ("b", "c", "m")), walk_of(Web.bunch("x", "x"), ("x",))]
+[(1, 4, 2), (0,)]
+>>> cut_in(bridge, ["b", "d", "m", "c"])
+('c', 'd')
+>>> [idle(Web.net([("a", 2, 3)])), bare(Web.net([("a", 2, 3)])) == Web.never()]
+[('a',), True]
+"""
+
+VALUES = """
+>>> from sixasone.values import Values
+>>> values = Values({"b": 3, "a": half})
+>>> [values["a"], values.names, len(values), "c" in values, values.rest]
+[Ratio(1/2), ('a', 'b'), 2, False, None]
+>>> values["c"]
+raises NoValue('c')
+>>> values.rest = 1
+>>> [values["c"], "c" in values, values.over()["b"], values.times(2)["c"]]
+[Ratio(1), False, Ratio(1/3), Ratio(2)]
+>>> values.turned()
+raises BadValue('b')
+>>> def ask(held):
+...     held["a"] = 5
+...     held.rest = None
+...     return held["a"]
+>>> [values.tried(ask), values["a"], values["zz"]]
+[Ratio(5), Ratio(1/2), Ratio(1)]
+>>> [str(Values.two(["a", "c"], 0, 1)["b"]), Values.two(["a"], 0, 1).names, Values() == Values({})]
+['1', ('a',), True]
+>>> Values({"a": -1, "A": 2})
+raises BadName('A')
+"""
+
+MEASURES = """
+>>> from sixasone.ratios import Ratio
+>>> from sixasone.webs import Web
+>>> from sixasone.values import Values
+>>> from sixasone.measures import Joined, Length, Width
+>>> bridge = Web.net([("a", 0, 2), ("b", 0, 3), ("m", 2, 3), ("c", 2, 1), ("d", 3, 1)])
+>>> bridge.links
+(('a', 0, 2), ('b', 0, 3), ('c', 1, 2), ('d', 1, 3), ('m', 2, 3))
+>>> rooms = Values({"a": 5, "b": 2, "c": 2, "d": 4, "m": 3})
+>>> [str(Width()(bridge, rooms)), Width().walk_in(bridge, rooms), str(Length()(bridge, rooms))]
+['3', (0, 4, 3), '6']
+>>> levels = (Ratio(0), Ratio(6), Ratio(4), Ratio(2))
+>>> [Length().shows(bridge, rooms, Ratio(6), ("way", (1, 3), levels)), Length().shows(bridge, rooms, 6, ("way", (1, 3), levels))]
+[True, False]
+>>> few = Values({"a": 1, "d": 1})
+>>> few.rest = 0
+>>> [str(Joined()(bridge, few)), Joined().shows(bridge, few, Ratio(0), ("cut", (1, 2, 4))), Joined().walk_in(bridge, few)]
+['0', True, None]
+>>> Length()(bridge, Values({"a": 1}))
+raises NoValue('b')
+"""
+
+ORDER = """
+>>> from sixasone.webs import Web
+>>> A, B = "b" | ("a" & Web.link("c")), "a" & ("b" | Web.link("c"))
+>>> [B <= A, A <= B, B < A]
+[True, False, True]
+>>> crossed = Web.net([("a", 0, 2), ("b", 0, 3), ("m", 2, 3), ("d", 2, 1), ("c", 3, 1)])
+>>> [bridge <= crossed, crossed <= bridge]
+[False, False]
+"""
+
+STREAMS = """
+>>> from sixasone.streams import amount, apart, is_stream, work
+>>> worse = (Web.link("a") | "b") & "m" & (Web.link("c") | "d")
+>>> half = Ratio(1, 2)
+>>> stream = (half, half, -half, -half, Ratio(1))
+>>> pairs = apart(worse, stream)
+>>> [is_stream(worse, stream), str(amount(worse, stream)), str(Ratio.total([part for walk, part in pairs])), {len(walk) for walk, part in pairs}]
+[True, '1', '1', {3}]
+>>> str(work(worse, Values({"a": 1, "b": 1, "c": 1, "d": 1, "m": 1}), stream))
+'2'
+"""
+
+TEXTS = """
+>>> [str(Web.read("(b & (a & c))")), Web.read("[3-x-0 1-y-3]").links, Web.read("open").kind]
+['(b & a & c)', (('x', 0, 3), ('y', 1, 3)), 'open']
+>>> Web.read("(a & b) ")
+raises BadText(7)
+>>> Web.read("(open & a)")
+raises BadText(5)
+>>> Web.read("[0-a-100]")
+raises BadText(7)
+>>> Web.read("net")
+raises BadText(3)
+>>> Web.read("((((((((((((((a")
+raises BadText(13)
+>>> Web.read("(a & b | c)")
+raises BadText(7)
+"""
+
+IN_ORDER = [RATIOS, WEBS, WAYS, VALUES, MEASURES, ORDER, STREAMS, TEXTS]
+
+
+def told(call, source, bound):
+    """What the document writes behind an example."""
+    try:
+        if call == "exec":
+            exec(source, bound)
+            return ""
+        return repr(eval(source, bound))
+    except ValueError as error:
+        return f"raises {type(error).__name__}({', '.join(repr(field) for field in vars(error).values())})"
+
+
+def examples(block):
+    """The pairs of a source and what is told behind it."""
+    found = []
+    for line in block.strip().split("\n"):
+        if line.startswith(">>> "):
+            found.append([line[4:], ""])
+        elif line.startswith("... "):
+            found[-1][0] += "\n" + line[4:]
+        else:
+            found[-1][1] += line
+    return found
+
+
+class ExamplesTest(unittest.TestCase):
+    def test_all_in_their_order(self):
+        bound = {}
+        for block in IN_ORDER:
+            for source, wanted in examples(block):
+                with self.subTest(source=source):
+                    self.assertEqual(told("eval" if wanted else "exec", source, bound), wanted)
+
+
+if __name__ == "__main__":
+    unittest.main()
