@@ -28,4 +28,4 @@ def cut_in(web, names):
 
 def is_cut(web, thing):
     """Whether any value is a cut."""
-    return isinstance(thing, tuple) and thing in cut_list(web)
+    return thing in cut_list(web)

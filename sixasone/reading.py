@@ -4,6 +4,7 @@ from sixasone.errors import BadText
 from sixasone.names import FIGURES, LETTERS, LONGEST, RESERVED
 from sixasone.shapes import OPEN, SHUT, compound, net_shape
 
+# As many as Web.MOST, in a file that is made from this one.
 MOST_NAMES = 14
 
 

@@ -33,7 +33,7 @@ def way_in(web, names):
 
 def is_way(web, thing):
     """Whether any value is a way."""
-    return isinstance(thing, tuple) and thing in way_list(web)
+    return thing in way_list(web)
 
 
 def walk_of(web, thing):

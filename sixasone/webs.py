@@ -180,7 +180,7 @@ class Web:
         return Web(put_in(self.shape, name, OPEN))
 
     def __contains__(self, x):
-        return is_name(x) and x in self.names
+        return x in self.names
 
     def __len__(self):
         return len(self.laid_links)

@@ -235,14 +235,48 @@ class PaperTest(Case):
                 told = {frozen(paper) for paper in papers}
                 for paper in chance.sample(papers, min(3, len(papers))):
                     for other in spoilt(paper):
-                        if ask.word != "length" or not self.has_levels(web, other):
+                        if ask.word != "length" or not self.has_other_levels(web, other, paper):
                             self.same([ask.shows(web, values, number, other), other],
                                       [frozen(other) in told, other])
 
-    def has_levels(self, web, paper):
+    def has_other_levels(self, web, other, paper):
         """Whether a changed paper of a length differs in the levels alone, which may fit as well."""
-        return isinstance(paper, tuple) and len(paper) == 3 and isinstance(paper[2], tuple) and \
-            len(paper[2]) == len(web.joints) and all(isinstance(level, Ratio) for level in paper[2])
+        return isinstance(other, tuple) and len(other) == 3 and frozen(other[:2]) == frozen(paper[:2]) and \
+            isinstance(other[2], tuple) and len(other[2]) == len(web.joints) and \
+            all(isinstance(level, Ratio) for level in other[2])
+
+    def test_every_walk_with_all_shut_places(self):
+        chance = random.Random(12)
+        for web in sample_webs(25, 5):
+            walks = plain_walks(web)
+            shut = shut_tuples(web, walks, range(len(web)))
+            values = drawn_values(chance, web, 3)
+            numbers = [Ratio(0), Ratio(1), ENDLESS] + [values[name] for name in web.names]
+            papers = {
+                "joined": [("way", walk) for walk in walks] + [("cut", places) for places in shut],
+                "length": [("way", walk, levels) for walk in walks for number in numbers if not number.is_endless
+                           for levels in level_tuples(web, values, number)],
+                "width": [("way", walk, places) for walk in walks for places in shut],
+            }
+            for ask in MEASURES:
+                right = [frozen(paper) for paper in right_papers(ask.word, web, values)]
+                for number in numbers + [ask(web, values)]:
+                    for paper in papers[ask.word] + [("cut", ()), ("open",)]:
+                        wanted = frozen(paper) in right
+                        if ask.word == "length" and paper[0] == "way":
+                            wanted = self.is_shortest(web, values, paper[1]) and self.fit(web, values, number, paper[2])
+                        wanted = wanted and number == plain_number(ask.word, web, values)
+                        self.same(ask.shows(web, values, number, paper), wanted)
+
+    def is_shortest(self, web, values, walk):
+        worths = worths_of(web, values)
+        return sum(worths[place] for place in walk) == min(sum(worths[k] for k in each) for each in plain_walks(web))
+
+    def fit(self, web, values, number, levels):
+        """Whether a tuple of ratios is levels up to a number."""
+        level_at = dict(zip(web.joints, levels))
+        return level_at[0] == Ratio(0) and level_at[1] == number and \
+            all(abs(level_at[u] - level_at[v]) <= values[name] for name, u, v in web.links)
 
     def test_any_value_is_no_paper(self):
         for web in (BRIDGE, Web.always(), Web.never(), Web.link("a")):

@@ -174,8 +174,11 @@ class NewValuesTest(Case):
         self.assertEqual(values.turned(), Values({"a": HALF, "b": 0, "c": 1}))
         values.rest = Ratio(1, 3)
         self.same([values.turned().rest, values.turned().turned() == values], [Ratio(2, 3), True])
-        values.rest = 2
-        self.fails(BadValue, ["rest"], values.turned)
+        values.rest = 1
+        self.same(values.turned().rest, Ratio(0))
+        for rest in (Ratio(4, 3), 2):
+            values.rest = rest
+            self.fails(BadValue, ["rest"], values.turned)
         values["d"] = Ratio(3, 2)
         values["c"] = 2
         self.fails(BadValue, ["c"], values.turned)
