@@ -3,7 +3,7 @@
 Each measure has its methods in its own class, also where they say the same.
 """
 
-from sixasone.places import is_shut, is_walk, values_at
+from sixasone.places import are_finite, is_shut, is_walk, values_at
 from sixasone.ratios import Ratio
 from sixasone.walks import walks_of
 
@@ -37,9 +37,7 @@ def levels_of(web, worths, number):
 
 def are_levels(web, worths, number, thing):
     """Whether any value is levels of the joints, from 0 up to the number."""
-    if not isinstance(thing, tuple) or len(thing) != len(web.joints):
-        return False
-    if not all([isinstance(level, Ratio) and not level.is_endless for level in thing]):
+    if not are_finite(thing, len(web.joints)):
         return False
     levels = dict(zip(web.joints, thing))
     steep = [abs(levels[u] - levels[v]) > worth for (_, u, v), worth in zip(web.links, worths)]

@@ -1,6 +1,7 @@
 """What is told of places: their values, and whether some are a walk or shut places."""
 
 from sixasone.names import is_int
+from sixasone.ratios import Ratio
 from sixasone.walks import reached
 
 
@@ -42,3 +43,10 @@ def is_shut(web, thing):
     if not all([is_place(web, place) for place in thing]) or list(thing) != sorted(set(thing)):
         return False
     return 1 not in reached([link for place, link in enumerate(web.links) if place not in thing], 0)
+
+
+def are_finite(thing, many):
+    """Whether any value is a tuple of so many ratios that are not endless."""
+    if not isinstance(thing, tuple) or len(thing) != many:
+        return False
+    return all([isinstance(part, Ratio) and not part.is_endless for part in thing])

@@ -1,7 +1,7 @@
 """Streams of a web."""
 
 from sixasone.errors import BadStream
-from sixasone.places import values_at
+from sixasone.places import are_finite, values_at
 from sixasone.ratios import Ratio
 from sixasone.walks import walks_of
 
@@ -15,9 +15,7 @@ def leaves_joint(web, streams, joint):
 
 def is_stream(web, thing):
     """Whether any value is a stream of the web."""
-    if not isinstance(thing, tuple) or len(thing) != len(web):
-        return False
-    if not all([isinstance(part, Ratio) and not part.is_endless for part in thing]):
+    if not are_finite(thing, len(web)):
         return False
     return all([leaves_joint(web, thing, joint) == Ratio(0) for joint in web.joints[2:]])
 

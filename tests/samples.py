@@ -3,6 +3,7 @@
 import itertools
 import random
 import unittest
+from fractions import Fraction
 
 from sixasone.errors import BadText, WebError
 from sixasone.measures import Joined, Length, Width
@@ -101,6 +102,19 @@ def sample_webs(count=120, places=6):
         webs.append(random_web(chance, chance.randrange(1, places + 1), names))
         webs.append(random_net(chance, chance.randrange(1, places + 1), 2 + at % 4, names))
     return webs
+
+
+def drawn_values(chance, web, highest=4):
+    """Values of the names of a web, some of them by the rest."""
+    values = Values({name: Ratio(chance.randrange(highest), chance.choice([1, 1, 2])) for name in web.names})
+    if len(values) > 1 and chance.random() < 0.3:
+        values = Values({name: values[name] for name in values.names[1:]})
+        values.rest = chance.randrange(highest)
+    return values
+
+
+def worths_of(web, values):
+    return [Fraction(values[name].top, values[name].bottom) for name, _, _ in web.links]
 
 
 def plain_walks(web):

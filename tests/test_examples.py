@@ -114,14 +114,64 @@ MEASURES = """
 raises NoValue('b')
 """
 
+FLOWS = """
+>>> from sixasone.flows import Flow
+>>> from sixasone.eases import Ease
+>>> [str(Flow()(bridge, rooms)), Flow().shut_in(bridge, rooms)]
+['6', (2, 3)]
+>>> streams = tuple([Ratio(n) for n in (4, 2, -2, -4, 2)])
+>>> Flow().shows(bridge, rooms, Ratio(6), ("stream", streams, (2, 3)))
+True
+>>> eases = Values({"a": 2, "b": 1, "c": 1, "d": 2, "m": 1})
+>>> [str(Ease()(bridge, eases)), [str(n) for n in Ease().paper_of(bridge, eases)[2]]]
+['7/5', ['1', '0', '3/5', '2/5']]
+"""
+
+# The document tells these in words.
+CASES = """
+>>> from sixasone.cases import is_tree, leaves, mass, questions
+>>> from sixasone.chances import Chance
+>>> from sixasone.papers import fixed, turned
+>>> T = ("ask", "a", ("ask", "b", ("way", ("b",)), ("ask", "c", ("way", ("a", "c")), ("cut", ("b", "c")))), ("cut", ("a",)))
+>>> first, second = "a" & (Web.link("b") | "c"), "b" | ("a" & Web.link("c"))
+>>> [is_tree(first, second, T), questions(T), len(list(leaves(T))), list(leaves(T))[1]]
+[True, 3, 4, (('a', 'c'), ('b',), ('way', ('a', 'c')))]
+>>> halves = Values.two([], 0, Ratio(1, 2))
+>>> [str(mass(T, halves)), str(Chance()(first, halves)), str(Chance()(second, halves))]
+['3/8', '3/8', '5/8']
+>>> turned(T)
+('ask', 'a', ('way', ('a',)), ('ask', 'b', ('ask', 'c', ('way', ('b', 'c')), ('cut', ('a', 'c'))), ('cut', ('b',))))
+>>> is_tree("b" & (Web.link("a") | "c"), "a" | ("b" & Web.link("c")), turned(T))
+True
+>>> fixed(T, "b", True)
+('ask', 'a', ('way', ()), ('cut', ('a',)))
+>>> fixed(T, "b", False)
+('ask', 'a', ('ask', 'c', ('way', ('a', 'c')), ('cut', ('c',))), ('cut', ('a',)))
+"""
+
+NAMED = """
+>>> from sixasone.named import WORDS, measure
+>>> [WORDS, measure("flow") == Flow()]
+[('joined', 'length', 'width', 'flow', 'chance', 'ease'), True]
+>>> measure("stream")
+raises BadName('stream')
+"""
+
 ORDER = """
+>>> from sixasone.lookers import shows_above, shows_apart, shows_by_links
+>>> from sixasone.orders import alike, compare
 >>> from sixasone.webs import Web
 >>> A, B = "b" | ("a" & Web.link("c")), "a" & ("b" | Web.link("c"))
->>> [B <= A, A <= B, B < A]
-[True, False, True]
+>>> [B <= A, A <= B, B < A, alike("a" & Web.link("b"), "b" & Web.link("a"))]
+[True, False, True, True]
+>>> compare(A, B).paper
+('apart', ('b',), ('a',))
 >>> crossed = Web.net([("a", 0, 2), ("b", 0, 3), ("m", 2, 3), ("d", 2, 1), ("c", 3, 1)])
->>> [bridge <= crossed, crossed <= bridge]
-[False, False]
+>>> [bridge <= crossed, crossed <= bridge, compare(bridge, crossed).paper]
+[False, False, ('apart', ('a', 'c'), ('b', 'd', 'm'))]
+>>> tree = ("ask", "b", ("way", ("b",)), ("ask", "a", ("ask", "c", ("way", ("a", "c")), ("cut", ("b", "c"))), ("cut", ("a",))))
+>>> [shows_above(B, A, tree), shows_above(A, B, tree), shows_by_links(B, A)]
+[True, False, True]
 """
 
 STREAMS = """
@@ -153,7 +203,7 @@ raises BadText(13)
 raises BadText(7)
 """
 
-IN_ORDER = [RATIOS, WEBS, WAYS, VALUES, MEASURES, ORDER, STREAMS, TEXTS]
+IN_ORDER = [RATIOS, WEBS, WAYS, VALUES, MEASURES, FLOWS, CASES, NAMED, ORDER, STREAMS, TEXTS]
 
 
 def told(call, source, bound):

@@ -5,7 +5,7 @@ import random
 import unittest
 from fractions import Fraction
 
-from samples import FIGURES_60, Case, frozen, odd_values, plain_walks, sample_webs, spoilt
+from samples import FIGURES_60, Case, drawn_values, frozen, odd_values, plain_walks, sample_webs, spoilt, worths_of
 from sixasone.errors import NoValue
 from sixasone.measures import ByCut, ByWay, Joined, Length, Measure, Width
 from sixasone.ratios import Ratio
@@ -17,19 +17,6 @@ BRIDGE = Web.net([("a", 0, 2), ("b", 0, 3), ("m", 2, 3), ("c", 2, 1), ("d", 3, 1
 ROOMS = Values({"a": 5, "b": 2, "c": 2, "d": 4, "m": 3})
 LEVELS = (Ratio(0), Ratio(6), Ratio(4), Ratio(2))
 ENDLESS = Ratio.endless()
-
-
-def drawn_values(chance, web, highest=4):
-    """Values of the names of a web, some of them by the rest."""
-    values = Values({name: Ratio(chance.randrange(highest), chance.choice([1, 1, 2])) for name in web.names})
-    if len(values) > 1 and chance.random() < 0.3:
-        values = Values({name: values[name] for name in values.names[1:]})
-        values.rest = chance.randrange(highest)
-    return values
-
-
-def worths_of(web, values):
-    return [Fraction(values[name].top, values[name].bottom) for name, _, _ in web.links]
 
 
 def plain_number(word, web, values):

@@ -3,6 +3,7 @@
 import random
 import unittest
 
+from plain import along, drawn_streams, plain_is_stream
 from samples import FIGURES_60, Case, frozen, odd_values, plain_walks, sample_webs, spoilt
 from sixasone.errors import BadStream, NoValue
 from sixasone.ratios import Ratio
@@ -14,59 +15,6 @@ WORSE = (Web.link("a") | "b") & "m" & (Web.link("c") | "d")
 HALF = Ratio(1, 2)
 STREAM = (HALF, HALF, -HALF, -HALF, Ratio(1))
 ONES = Values.two((), 1, 1)
-
-
-def plain_is_stream(web, thing):
-    if not isinstance(thing, tuple) or len(thing) != len(web.links):
-        return False
-    if any(not isinstance(part, Ratio) or part.is_endless for part in thing):
-        return False
-    left = {joint: Ratio(0) for joint in web.joints}
-    for (_, u, v), part in zip(web.links, thing):
-        left[u] -= part
-        left[v] += part
-    return all(left[joint] == Ratio(0) for joint in web.joints if joint > 1)
-
-
-def along(web, walk):
-    """The pairs of a place and the sign of its stream, if a walk is gone from joint 0."""
-    joint, pairs = 0, []
-    for place in walk:
-        _, u, v = web.links[place]
-        pairs.append((place, 1 if joint == u else -1))
-        joint = v if joint == u else u
-    return pairs
-
-
-def rings(web):
-    """Streams of amount 0: the one walk less the other one, and loops."""
-    walks = plain_walks(web)
-    found = []
-    for walk in walks[1:]:
-        parts = [0] * len(web)
-        for some, sign in ((walks[0], 1), (walk, -1)):
-            for place, way in along(web, some):
-                parts[place] += sign * way
-        found.append(parts)
-    return found + [[int(at == place) for at in range(len(web))]
-                    for place, (_, u, v) in enumerate(web.links) if u == v]
-
-
-def drawn_streams(chance, web, count=6):
-    """Streams that are sums of walks and rings."""
-    walks = plain_walks(web)
-    found = [tuple(Ratio(0) for _ in web.links)]
-    for _ in range(count):
-        parts = [Ratio(0)] * len(web)
-        for walk in chance.sample(walks, min(len(walks), 3)):
-            many = Ratio(chance.randrange(-3, 5), chance.choice([1, 2, 3]))
-            for place, way in along(web, walk):
-                parts[place] += way * many
-        for ring in chance.sample(rings(web), min(len(rings(web)), 2)):
-            many = chance.randrange(-2, 3)
-            parts = [part + many * one for part, one in zip(parts, ring)]
-        found.append(tuple(parts))
-    return found
 
 
 class StreamTest(Case):

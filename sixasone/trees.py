@@ -1,0 +1,79 @@
+"""Trees of cases by themselves: their form, their roads and their leaves."""
+
+from sixasone.errors import BadTree
+from sixasone.names import is_name
+from sixasone.ratios import Ratio
+from sixasone.walks import holds
+
+MOST_ASKED = 14
+
+
+def are_names(thing):
+    """Whether any value is an ascending tuple of unlike names."""
+    if not isinstance(thing, tuple) or not all([is_name(name) for name in thing]):
+        return False
+    return list(thing) == sorted(set(thing))
+
+
+def is_leaf(thing, opened, shut):
+    """Whether a tuple is a leaf on a road with these names answered open and shut."""
+    if len(thing) != 2 or thing[0] not in ("way", "cut") or not are_names(thing[1]):
+        return False
+    return holds(opened if thing[0] == "way" else shut, thing[1])
+
+
+def is_question(thing, asked):
+    """Whether a tuple asks a name that a road has not asked yet, and may ask."""
+    if len(thing) != 4 or thing[0] != "ask" or not is_name(thing[1]):
+        return False
+    return thing[1] not in asked and len(asked) < MOST_ASKED
+
+
+def rows_below(thing, opened, shut):
+    """The triples (names answered open, shut, leaf) of what is below a road, or None if it is no tree."""
+    if not isinstance(thing, tuple):
+        return None
+    if is_leaf(thing, opened, shut):
+        return [(tuple(sorted(set(opened))), tuple(sorted(set(shut))), thing)]
+    if not is_question(thing, opened + shut):
+        return None
+    first = rows_below(thing[2], opened + (thing[1],), shut)
+    if first is None:
+        return None
+    second = rows_below(thing[3], opened, shut + (thing[1],))
+    return None if second is None else first + second
+
+
+def rows_of(tree):
+    """The triples of all leaves of a tree, those of open trees ahead."""
+    rows = rows_below(tree, (), ())
+    if rows is None:
+        raise BadTree()
+    return rows
+
+
+def check_tree(*trees):
+    """Raises BadTree if one of any values is no tree."""
+    for tree in trees:
+        rows_of(tree)
+
+
+def asked_in(rows):
+    """The ascending list of the names that a tree with these triples asks."""
+    return sorted(set([name for opened, shut, _ in rows for name in opened + shut]))
+
+
+def leaf_at(tree, names):
+    """The leaf to which a tree leads if just these names are open."""
+    here = tree
+    while here[0] == "ask":
+        here = here[2] if here[1] in names else here[3]
+    return here
+
+
+def mass_of(tree, worths):
+    """The mass of a tree, by the values of the names that it asks."""
+    if tree[0] != "ask":
+        return Ratio(1) if tree[0] == "way" else Ratio(0)
+    worth = worths[tree[1]]
+    return worth * mass_of(tree[2], worths) + (1 - worth) * mass_of(tree[3], worths)
