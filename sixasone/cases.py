@@ -9,19 +9,7 @@ from sixasone.ways import least_ways
 
 def first_held(counts, names):
     """The first of some counts all of whose names are among names."""
-    for count in counts:
-        if holds(names, count):
-            return count
-    return None
-
-
-def shortest(live):
-    """The first of the ways that wait for the fewest answers."""
-    best = live[0]
-    for row in live:
-        if len(row[0]) < len(best[0]):
-            best = row
-    return best
+    return [count for count in counts if holds(names, count)][0]
 
 
 def grown(live, shut, parting):
@@ -32,7 +20,7 @@ def grown(live, shut, parting):
     """
     if not live:
         return ("cut", first_held(parting, shut))
-    waiting, shown = shortest(live)
+    waiting, shown = live[0]
     if not waiting:
         return ("way", shown)
     name = waiting[0]
