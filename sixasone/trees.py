@@ -71,6 +71,14 @@ def leaf_at(tree, names):
     return here
 
 
+def leaf_without(tree, names):
+    """The leaf to which a tree leads if just these names are shut."""
+    here = tree
+    while here[0] == "ask":
+        here = here[3] if here[1] in names else here[2]
+    return here
+
+
 def mass_of(tree, worths):
     """The mass of a tree, by the values of the names that it asks."""
     if tree[0] != "ask":

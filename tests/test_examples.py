@@ -174,7 +174,9 @@ ORDER = """
 [True, False, True]
 """
 
-STREAMS = """
+CARRYING = """
+>>> from sixasone.carrying import carry_cut, carry_heights, carry_stream, carry_way
+>>> from sixasone.cases import tree_of
 >>> from sixasone.streams import amount, apart, is_stream, work
 >>> worse = (Web.link("a") | "b") & "m" & (Web.link("c") | "d")
 >>> half = Ratio(1, 2)
@@ -182,8 +184,46 @@ STREAMS = """
 >>> pairs = apart(worse, stream)
 >>> [is_stream(worse, stream), str(amount(worse, stream)), str(Ratio.total([part for walk, part in pairs])), {len(walk) for walk, part in pairs}]
 [True, '1', '1', {3}]
->>> str(work(worse, Values({"a": 1, "b": 1, "c": 1, "d": 1, "m": 1}), stream))
-'2'
+>>> tree = tree_of(worse, bridge)
+>>> carried = carry_stream(tree, worse, bridge, stream)
+>>> [[str(n) for n in carried], str(work(worse, Values({"a": 1, "b": 1, "c": 1, "d": 1, "m": 1}), stream))]
+[['1/2', '1/2', '-1/2', '-1/2', '0'], '2']
+>>> [carry_way(tree, ["m"]), set(carry_cut(tree, ["a", "b"])) <= {"a", "b"}]
+[None, True]
+>>> low, high = "a" & (Web.link("b") | "c"), "b" | (Web.link("a") & "c")
+>>> [low.links, high.links]
+[(('a', 0, 2), ('b', 1, 2), ('c', 1, 2)), (('a', 0, 2), ('b', 0, 1), ('c', 1, 2))]
+>>> heights = (Ratio(1), Ratio(0), Ratio(4, 9))
+>>> [str(n) for n in carry_heights(tree_of(low, high), low, high, heights)]
+['1', '0', '4/9']
+"""
+
+BRIDGES = """
+>>> from sixasone.bridges import is_bridge, shows_tied, tied_of
+>>> from sixasone.normals import normal
+>>> str(normal("d" & (Web.link("c") | ("b" & Web.link("a")))))
+'(((a & b) | c) & d)'
+>>> [is_bridge(bridge), is_bridge(bridge & "z"), tied_of("z" & bridge)]
+[True, False, ('bridge', (), ('z',))]
+>>> tied_of(Web.net([("a", 0, 2), ("b", 2, 3), ("c", 1, 3), ("d", 0, 3), ("i", 2, 2)]))[0]
+'tied'
+>>> shows_tied(bridge | "z", ("bridge", ("z",), ()))
+True
+"""
+
+# The document tells these in words.
+TURNS = """
+>>> from sixasone.turns import same_net, shows_turns, turn, turns_between
+>>> turn(Web.row("a", "b", "c"), ("a", "b")).links
+(('a', 2, 3), ('b', 0, 2), ('c', 1, 3))
+>>> turn(Web.row("a", "b", "c"), ("a", "c"))
+raises NoTurn(1)
+>>> turn(Web.bunch(Web.row("a", "c"), "b"), ("a", "c")).links
+(('a', 1, 2), ('b', 0, 1), ('c', 0, 2))
+>>> [same_net(turn(bridge, bridge.names), -bridge), turns_between(bridge, crossed)]
+[True, None]
+>>> [turns_between(Web.row("a", "b"), Web.row("b", "a")), shows_turns(Web.row("a", "b"), Web.row("b", "a"), [("a", "b")])]
+[[('a', 'b')], True]
 """
 
 TEXTS = """
@@ -203,7 +243,7 @@ raises BadText(13)
 raises BadText(7)
 """
 
-IN_ORDER = [RATIOS, WEBS, WAYS, VALUES, MEASURES, FLOWS, CASES, NAMED, ORDER, STREAMS, TEXTS]
+IN_ORDER = [RATIOS, WEBS, WAYS, VALUES, MEASURES, FLOWS, CASES, NAMED, ORDER, CARRYING, BRIDGES, TURNS, TEXTS]
 
 
 def told(call, source, bound):

@@ -52,6 +52,11 @@ INTERFACE = {
     "orders": {"compare": "", "Verdict": "__bool__ paper __eq__", "Above": "__init__", "Apart": "__init__", "alike": ""},
     "lookers": {"shows_above": "", "shows_apart": "", "shows_by_links": ""},
     "partings": {"partings": "", "parted": ""},
+    "carrying": {"carry_way": "", "carry_cut": "", "carry_stream": "", "carry_heights": ""},
+    "normals": {"normal": ""},
+    "bridges": {"is_bridge": "", "tied_of": "", "shows_tied": ""},
+    "turns": {"turn": "", "same_net": "", "turns_between": "", "shows_turns": ""},
+    "simplex": {"packing": "", "shows_packing": ""},
 }
 
 
@@ -238,7 +243,7 @@ class InterfaceTest(unittest.TestCase):
                     continue
                 self.assertEqual(len(found), 1, (stem, name))
                 body = {getattr(node, "name", None) for node in found[0].body}
-                body |= {node.targets[0].id for node in found[0].body if isinstance(node, ast.Assign)}
+                body |= {getattr(node.targets[0], "id", None) for node in found[0].body if isinstance(node, ast.Assign)}
                 self.assertTrue(set(methods.split()) <= body, (stem, name, set(methods.split()) - body))
 
 
