@@ -1,12 +1,10 @@
 """Papers that a tree of cases carries from one web to another one."""
 
-from math import lcm
-
 from sixasone.cases import is_tree
 from sixasone.errors import BadHeights, BadStream, BadTree
 from sixasone.places import are_finite
 from sixasone.plains import check_plain
-from sixasone.ratios import Ratio
+from sixasone.ratios import Ratio, common_bottom
 from sixasone.streams import apart, is_stream, steps_of
 from sixasone.trees import check_tree, leaf_at, leaf_without
 from sixasone.walks import count_of, holds, reached, walks_of
@@ -53,14 +51,6 @@ def are_heights(web, thing):
     if not are_finite(thing, len(web.joints)):
         return False
     return web.kind != "open" or thing[0] == thing[1]
-
-
-def common_bottom(ratios):
-    """The least whole number that brings ratios to one bottom."""
-    bottom = 1
-    for ratio in ratios:
-        bottom = lcm(bottom, ratio.bottom)
-    return bottom
 
 
 def near_side(one, cut):

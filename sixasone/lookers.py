@@ -3,7 +3,7 @@
 from sixasone.cases import is_tree
 from sixasone.errors import TooMany
 from sixasone.trees import are_names
-from sixasone.walks import joins
+from sixasone.walks import joins, names_of_both
 
 MOST_NAMES = 8
 
@@ -18,11 +18,6 @@ def shows_apart(one, other, way, cut):
     if not are_names(way) or not are_names(cut) or any([name in cut for name in way]):
         return False
     return joins(one, way) and not joins(other, [name for name in other.names if name not in cut])
-
-
-def names_of_both(one, other):
-    """The ascending list of the names that one or both webs have."""
-    return sorted(set(list(one.names) + list(other.names)))
 
 
 def link_by_link(one, other):

@@ -1,7 +1,7 @@
 """The order of webs: what shows that one is never worse than another one, or that it can be."""
 
 from sixasone.cases import tree_of
-from sixasone.cuts import cut_list
+from sixasone.cuts import cut_in
 from sixasone.walks import joins
 from sixasone.ways import least_ways
 
@@ -42,13 +42,21 @@ class Apart(Verdict):
         self.cut = cut
 
 
+def parted_by(least, other):
+    """The first of the least ways of a web that is none of other, and a cut of other beside it, or None."""
+    for way in least:
+        if not joins(other, way):
+            cut = cut_in(other, [name for name in other.names if name not in way])
+            return way, tuple(sorted(set(cut)))
+    return None
+
+
 def compare(one, other):
     """Above with a tree for one and other, or Apart with a way of one and a cut of other."""
-    if one <= other:
+    pair = parted_by(least_ways(one), other)
+    if pair is None:
         return Above(tree_of(one, other))
-    way = [each for each in least_ways(one) if not joins(other, each)][0]
-    cut = [each for each in cut_list(other) if not any([name in way for name in each])][0]
-    return Apart(way, tuple(sorted(set(cut))))
+    return Apart(pair[0], pair[1])
 
 
 def alike(one, other):

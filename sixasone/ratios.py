@@ -1,6 +1,6 @@
 """Exact fractions, and endless."""
 
-from math import gcd
+from math import gcd, lcm
 
 from sixasone.errors import BadRatio, BadText, NoRatio
 from sixasone.names import FIGURES, is_int
@@ -46,6 +46,14 @@ def ratios_of(items):
         if not is_int(item) and not isinstance(item, Ratio):
             raise BadRatio(at)
     return [Ratio.of(item) for item in items]
+
+
+def common_bottom(ratios):
+    """The least whole number that brings ratios, none of them endless, to one bottom."""
+    bottom = 1
+    for each in ratios:
+        bottom = lcm(bottom, each.bottom)
+    return bottom
 
 
 class Ratio:

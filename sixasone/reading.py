@@ -8,29 +8,12 @@ from sixasone.shapes import OPEN, SHUT, compound, net_shape
 MOST_NAMES = 14
 
 
-class WebReader:
-    """Reads one text, and stops where no right text goes on like it.
-
-    Each bracket wants a second part: `owed` counts the names that the brackets still want behind
-    the part that is being read, so that no beginning is taken that wants too many names.
-    """
+class Reader:
+    """Reads one text sign by sign, and stops where no right text goes on like it."""
 
     def __init__(self, text):
         self.text = text
         self.at = 0
-        self.used = 0
-        self.owed = 0
-
-    def read_whole(self):
-        """The shape of the whole text."""
-        if self.text == "open":
-            return OPEN
-        if self.text == "shut":
-            return SHUT
-        shape = self.read_part()
-        if self.at < len(self.text):
-            raise BadText(self.at)
-        return shape
 
     def sees(self, signs):
         """Whether one of the signs comes next."""
@@ -42,6 +25,48 @@ class WebReader:
             raise BadText(self.at)
         self.at += 1
         return self.text[self.at - 1]
+
+    def take_all(self, word):
+        """Goes on behind all signs of a word, one behind the other."""
+        for sign in word:
+            self.take(sign)
+
+    def take_end(self):
+        """Checks that the text ends here."""
+        if self.at < len(self.text):
+            raise BadText(self.at)
+
+    def take_name(self):
+        """A name."""
+        found = self.take(LETTERS)
+        while len(found) < LONGEST and self.sees(LETTERS):
+            found = found + self.take(LETTERS)
+        if found in RESERVED:
+            raise BadText(self.at)
+        return found
+
+
+class WebReader(Reader):
+    """Reads the text of a web.
+
+    Each bracket wants a second part: `owed` counts the names that the brackets still want behind
+    the part that is being read, so that no beginning is taken that wants too many names.
+    """
+
+    def __init__(self, text):
+        super().__init__(text)
+        self.used = 0
+        self.owed = 0
+
+    def read_whole(self):
+        """The shape of the whole text."""
+        if self.text == "open":
+            return OPEN
+        if self.text == "shut":
+            return SHUT
+        shape = self.read_part()
+        self.take_end()
+        return shape
 
     def has_room(self, names):
         """Whether so many more names may stand here."""
@@ -99,12 +124,8 @@ class WebReader:
         return int(figures)
 
     def read_name(self):
-        """A name."""
-        found = self.take(LETTERS)
-        while len(found) < LONGEST and self.sees(LETTERS):
-            found = found + self.take(LETTERS)
-        if found in RESERVED:
-            raise BadText(self.at)
+        """A name, which is counted."""
+        found = self.take_name()
         self.used += 1
         return found
 

@@ -103,6 +103,11 @@ def least_of(counts):
     return [one for one in sets if not any([holds(one, other) for other in sets if other != one])]
 
 
+def names_of_both(one, other):
+    """The ascending list of the names that one or both webs have."""
+    return sorted(set(list(one.names) + list(other.names)))
+
+
 def joins(web, names):
     """Whether names join a web."""
     if web.kind == "open":

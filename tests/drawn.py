@@ -3,7 +3,8 @@
 import random
 
 from plain import plain_joins, plain_rows
-from samples import LETTERS, all_name_sets, odd_values, random_net, random_web, spoilt
+from samples import LETTERS, all_name_sets, counts, least_sets, odd_values, plain_cuts, plain_walks, random_net
+from samples import random_web, spoilt
 from sixasone.cases import tree_of
 from sixasone.webs import Web
 
@@ -54,6 +55,14 @@ def never_worse(one, other):
     """Whether one is never joined without other, by all sets of names."""
     names = sorted(set(one.names + other.names))
     return all(plain_joins(other, some) for some in all_name_sets(names) if plain_joins(one, some))
+
+
+def plain_apart(one, other):
+    """The way and the cut that compare tells, by all walks and all sides."""
+    ways = least_sets(counts(one, plain_walks(one)))
+    way = [each for each in ways if not plain_joins(other, each)][0]
+    cuts = counts(other, plain_cuts(other))
+    return way, tuple(sorted(set([each for each in cuts if not set(each) & set(way)][0])))
 
 
 def tree_pairs(count=150, places=5, seed=41):

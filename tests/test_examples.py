@@ -226,7 +226,38 @@ raises NoTurn(1)
 [[('a', 'b')], True]
 """
 
+MIXES = """
+>>> from sixasone.mixes import never_less, never_longer, shows_longer
+>>> from sixasone.webs import Web
+>>> xy, pairs = Web.row("x", "y"), Web.bunch(Web.row("x", "x"), Web.row("y", "y"))
+>>> never_longer(xy, pairs)
+('mix', ((('x', 'y'), (Ratio(1/2), Ratio(1/2))),))
+>>> never_longer(pairs, xy)[:2]
+('bar', ('x', 'x'))
+>>> shows_longer(pairs, xy, ("bar", ("x", "x"), {"x": 0, "y": 1}))
+True
+>>> [never_less(Web.link("x"), Web.row("x", "x"))[0], never_longer(Web.link("x"), Web.row("x", "x"))[0]]
+['mix', 'bar']
+>>> never_less(Web.bunch("x", "x"), Web.link("x"))[:2]
+('bar', ('x',))
+>>> never_longer(Web.never(), xy)
+('mix', ())
+"""
+
+KEEPERS = """
+>>> from sixasone.fixes import least_sure
+>>> from sixasone.keepers import Keeper
+>>> keeper = Keeper(B, A)
+>>> keeper.drop("b")
+raises Worse(('a', 'b'), ('c',))
+>>> [keeper.make_one("a"), str(keeper.web), keeper.log, len(keeper), keeper.undo()]
+[None, '(b | c)', [('make_one', 'a')], 1, True]
+>>> least_sure(A, B)
+(('a',), [((), ('b',), ('a',))])
+"""
+
 TEXTS = """
+>>> from sixasone.texts import read_tree, read_values, write_values
 >>> [str(Web.read("(b & (a & c))")), Web.read("[3-x-0 1-y-3]").links, Web.read("open").kind]
 ['(b & a & c)', (('x', 0, 3), ('y', 1, 3)), 'open']
 >>> Web.read("(a & b) ")
@@ -241,9 +272,30 @@ raises BadText(3)
 raises BadText(13)
 >>> Web.read("(a & b | c)")
 raises BadText(7)
+>>> write_values(read_values("b 6/4, * 1, a 0"))
+'a 0, b 3/2, * 1'
+>>> read_tree("(a ? way a : cut a c)")
+('ask', 'a', ('way', ('a',)), ('cut', ('a', 'c')))
+>>> read_values("a 1/0")
+raises BadText(4)
+>>> read_values("a 2/4, b 03")
+raises BadText(10)
+>>> read_values("none, a 1")
+raises BadText(4)
 """
 
-IN_ORDER = [RATIOS, WEBS, WAYS, VALUES, MEASURES, FLOWS, CASES, NAMED, ORDER, CARRYING, BRIDGES, TURNS, TEXTS]
+DESK = """
+>>> from sixasone.desk import Desk
+>>> desk = Desk()
+>>> desk.run("web low (a & (b | c))", "web high (b | (a & c))", "ways low", "order low high", "at a 4, b 3, c 5", "tell flow low")
+['ok', 'ok', 'a b / a c', 'second', 'ok', '4']
+>>> desk.run("keep low high", "drop b", "sure a", "kept", "undo", "undo")
+['ok', 'worse: a b', 'ok', '(b | c)', 'ok', 'nothing']
+>>> desk.say("ways")
+raises NoLine()
+"""
+
+IN_ORDER = [RATIOS, WEBS, WAYS, VALUES, MEASURES, FLOWS, CASES, NAMED, ORDER, CARRYING, BRIDGES, TURNS, MIXES, KEEPERS, TEXTS, DESK]
 
 
 def told(call, source, bound):

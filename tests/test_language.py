@@ -57,6 +57,13 @@ INTERFACE = {
     "bridges": {"is_bridge": "", "tied_of": "", "shows_tied": ""},
     "turns": {"turn": "", "same_net": "", "turns_between": "", "shows_turns": ""},
     "simplex": {"packing": "", "shows_packing": ""},
+    "mixes": {"never_longer": "", "never_less": "", "shows_longer": "", "shows_less": ""},
+    "keepers": {"Keeper": "__init__ web floor set_floor paper drop make_one put beside behind log __len__ undo trial tried"},
+    "fixes": {"least_sure": "", "shows_least_sure": ""},
+    "texts": {"write_values": "", "read_values": "", "write_tree": "", "read_tree": ""},
+    "desk": {"Desk": "__init__ say __call__ run"},
+    "errors": {name: "" for name in "WebError BadRatio NoRatio BadName BadWeb NoName NotTied NotPlain BadValue NoValue BadTree "
+                                    "BadStream BadHeights NoTurn TooMany BadText Worse Barred NoLine".split()},
 }
 
 
@@ -188,15 +195,31 @@ class NameTest(unittest.TestCase):
                     marks = {getattr(mark, "id", "property") for mark in node.decorator_list}
                     (properties if "property" in marks else methods).add(node.name)
         self.assertEqual(methods & attributes, set())
-        self.assertEqual(properties & attributes, {"rest"})
+        self.assertEqual(properties & attributes, {"rest", "floor"})
         self.assertEqual(properties & methods, set())
 
 
 class ExpressionTest(unittest.TestCase):
     def test_what_is_left_out(self):
-        barred = (ast.GeneratorExp, ast.Div, ast.Global, ast.AsyncFunctionDef, ast.Await, ast.AnnAssign, ast.Try,
+        barred = (ast.GeneratorExp, ast.Div, ast.Global, ast.AsyncFunctionDef, ast.Await, ast.AnnAssign,
                   ast.Set, ast.SetComp, ast.MatMult)
         self.assertEqual([(stem, node) for stem, node in nodes(barred)], [])
+
+    def test_own_errors_are_caught(self):
+        for stem, node in nodes(ast.Try):
+            self.assertEqual(node.finalbody, [])
+            for handler in node.handlers:
+                self.assertIn(handler.type.id, top_names("errors")[0], (stem, node.lineno))
+
+    def test_ends_of_blocks(self):
+        # What stands in __exit__: attributes that are assigned attributes, perhaps below one test.
+        for stem, node in nodes(ast.FunctionDef):
+            if node.name == "__exit__":
+                rows = node.body[0].body if isinstance(node.body[0], ast.If) else node.body
+                for row in rows:
+                    self.assertIsInstance(row, ast.Assign)
+                    self.assertIsInstance(row.targets[0], ast.Attribute)
+                    self.assertIsInstance(row.value, ast.Attribute)
 
     def test_sets_and_order(self):
         for stem, tree in TREES.items():

@@ -4,9 +4,9 @@ import itertools
 import random
 import unittest
 
-from drawn import HIGH, LOW, never_worse, plain_pair, web_pairs
+from drawn import HIGH, LOW, never_worse, plain_apart, plain_pair, web_pairs
 from plain import plain_is_tree, plain_joins
-from samples import Case, counts, frozen, least_sets, odd_values, plain_cuts, plain_walks
+from samples import Case, frozen, odd_values
 from sixasone.named import WORDS, measure
 from sixasone.orders import Above, Apart, Verdict, alike, compare
 from sixasone.partings import partings
@@ -17,14 +17,6 @@ from sixasone.webs import Web
 A, B = "b" | ("a" & Web.link("c")), "a" & ("b" | Web.link("c"))
 BRIDGE = Web.net([("a", 0, 2), ("b", 0, 3), ("m", 2, 3), ("c", 2, 1), ("d", 3, 1)])
 CROSSED = Web.net([("a", 0, 2), ("b", 0, 3), ("m", 2, 3), ("d", 2, 1), ("c", 3, 1)])
-
-
-def plain_apart(one, other):
-    """The way and the cut that compare tells, by all walks and all sides."""
-    ways = least_sets(counts(one, plain_walks(one)))
-    way = [each for each in ways if not plain_joins(other, each)][0]
-    cuts = counts(other, plain_cuts(other))
-    return way, tuple(sorted(set([each for each in cuts if not set(each) & set(way)][0])))
 
 
 class CompareTest(Case):
