@@ -1,9 +1,9 @@
 """Chance: how likely it is that the ends are joined."""
 
-from sixasone.cases import chances_of, is_tree, tree_of
+from sixasone.cases import are_right, chances_of, tree_of
 from sixasone.measures import Measure
 from sixasone.ratios import Ratio
-from sixasone.trees import asked_in, mass_of, rows_of
+from sixasone.trees import asked_in, mass_of, rows_below
 from sixasone.walks import holds
 
 
@@ -43,7 +43,8 @@ class Chance(Measure):
         if not isinstance(paper, tuple) or len(paper) != 2:
             return False
         word, tree = paper
-        if word != "cases" or not is_tree(web, web, tree) or not holds(web.names, asked_in(rows_of(tree))):
+        rows = rows_below(tree) if word == "cases" else None
+        if rows is None or not holds(web.names, asked_in(rows)) or not are_right(web, web, rows):
             return False
         return mass_of(tree, worths) == number
 

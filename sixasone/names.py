@@ -15,4 +15,4 @@ def is_name(thing):
     """Whether any value is a name."""
     if not isinstance(thing, str) or not 1 <= len(thing) <= LONGEST:
         return False
-    return thing not in RESERVED and all([letter in LETTERS for letter in thing])
+    return thing not in RESERVED and thing.isascii() and thing.isalpha() and thing.islower()

@@ -17,9 +17,12 @@ def are_names(thing):
 
 def is_leaf(thing, opened, shut):
     """Whether a tuple is a leaf on a road with these names answered open and shut."""
-    if len(thing) != 2 or thing[0] not in ("way", "cut") or not are_names(thing[1]):
+    if len(thing) != 2 or thing[0] not in ("way", "cut") or not isinstance(thing[1], tuple):
         return False
-    return holds(opened if thing[0] == "way" else shut, thing[1])
+    # What a road has answered are names.
+    if not holds(opened if thing[0] == "way" else shut, thing[1]):
+        return False
+    return list(thing[1]) == sorted(set(thing[1]))
 
 
 def is_question(thing, asked):
@@ -29,24 +32,28 @@ def is_question(thing, asked):
     return thing[1] not in asked and len(asked) < MOST_ASKED
 
 
-def rows_below(thing, opened, shut):
-    """The triples (names answered open, shut, leaf) of what is below a road, or None if it is no tree."""
-    if not isinstance(thing, tuple):
-        return None
-    if is_leaf(thing, opened, shut):
-        return [(tuple(sorted(set(opened))), tuple(sorted(set(shut))), thing)]
-    if not is_question(thing, opened + shut):
-        return None
-    first = rows_below(thing[2], opened + (thing[1],), shut)
-    if first is None:
-        return None
-    second = rows_below(thing[3], opened, shut + (thing[1],))
-    return None if second is None else first + second
+def rows_below(thing):
+    """The triples (names answered open, shut, leaf) of any value, as the roads go, or None if it is no tree."""
+    rows = []
+    waiting = [(thing, (), ())]
+    while waiting:
+        here, opened, shut = waiting.pop()
+        if not isinstance(here, tuple):
+            return None
+        if is_question(here, opened + shut):
+            _, name, first, second = here
+            waiting.append((second, opened, shut + (name,)))
+            waiting.append((first, opened + (name,), shut))
+        elif is_leaf(here, opened, shut):
+            rows.append((opened, shut, here))
+        else:
+            return None
+    return rows
 
 
 def rows_of(tree):
     """The triples of all leaves of a tree, those of open trees ahead."""
-    rows = rows_below(tree, (), ())
+    rows = rows_below(tree)
     if rows is None:
         raise BadTree()
     return rows
@@ -79,9 +86,19 @@ def leaf_without(tree, names):
     return here
 
 
-def mass_of(tree, worths):
-    """The mass of a tree, by the values of the names that it asks."""
+def mass_times(tree, worths, many):
+    """The mass of a tree times a whole number, which the bottoms of all values on a road divide."""
     if tree[0] != "ask":
-        return Ratio(1) if tree[0] == "way" else Ratio(0)
+        return many if tree[0] == "way" else 0
     worth = worths[tree[1]]
-    return worth * mass_of(tree[2], worths) + (1 - worth) * mass_of(tree[3], worths)
+    rest = many // worth.bottom
+    opened = worth.top * mass_times(tree[2], worths, rest)
+    return opened + (worth.bottom - worth.top) * mass_times(tree[3], worths, rest)
+
+
+def mass_of(tree, worths):
+    """The mass of a tree, by the values of all names that it asks."""
+    many = 1
+    for name in worths:
+        many = many * worths[name].bottom
+    return Ratio(mass_times(tree, worths, many), many)

@@ -3,6 +3,8 @@
 What the signs between webs run changes nothing that it is passed.
 """
 
+from sixasone.bits import bits_of, first_within, mask_of
+
 
 def steps_from(links, joint):
     """The pairs (place, joint at its other side) of the links at a joint."""
@@ -13,11 +15,12 @@ def walks_of(web):
     """The list of all walks, shorter ones first, those of one length as tuples compare."""
     if web.kind == "open":
         return [()]
+    steps = {joint: steps_from(web.links, joint) for joint in web.joints}
     found = []
     begun = [((), (0,))]
     while begun:
         walk, passed = begun.pop()
-        for place, joint in steps_from(web.links, passed[-1]):
+        for place, joint in steps[passed[-1]]:
             if joint == 1:
                 found.append(walk + (place,))
             elif joint not in passed:
@@ -33,13 +36,13 @@ def walked_places(web):
 def reached(links, start):
     """The joints, as keys of a dict, to which links lead from a joint."""
     found = {start: True}
-    waiting = [start]
-    while waiting:
-        here = waiting.pop()
-        for _, joint in steps_from(links, here):
-            if joint not in found:
-                found[joint] = True
-                waiting.append(joint)
+    before = 0
+    while before < len(found):
+        before = len(found)
+        for _, u, v in links:
+            if u in found or v in found:
+                found[u] = True
+                found[v] = True
     return found
 
 
@@ -100,7 +103,16 @@ def holds(names, wanted):
 def least_of(counts):
     """The counts as tuples of unlike names, without those that hold another one."""
     sets = in_order([tuple(sorted(set(count))) for count in counts])
-    return [one for one in sets if not any([holds(one, other) for other in sets if other != one])]
+    bits = bits_of(sorted(set([name for names in sets for name in names])))
+    found = []
+    masks = []
+    # What one holds is shorter, and stands ahead of it.
+    for names in sets:
+        mask = mask_of(bits, names)
+        if first_within(masks, mask) is None:
+            found.append(names)
+            masks.append(mask)
+    return found
 
 
 def names_of_both(one, other):

@@ -203,6 +203,10 @@ class ShowsTiedTest(Case):
                                     ((), ["x", "y"], False), (("x",), ("x", "y"), False), (("x",), ("y",), False),
                                     ((), ("x",), False), ((), (), False)):
             self.same(shows_tied(web, ("bridge", taken, made)), wanted)
+        beside = Web.bunch("x", "y", BRIDGE)
+        for taken, made, wanted in ((("x", "y"), (), True), (("x", "y"), ("x",), False), (("x", "y"), ("x", "y"), False),
+                                    (("x",), ("y",), False), (("x", "x", "y"), (), False), (("y", "x"), (), False)):
+            self.same(shows_tied(beside, ("bridge", taken, made)), wanted)
 
 
 if __name__ == "__main__":

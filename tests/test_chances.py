@@ -2,12 +2,13 @@
 
 import itertools
 import random
+import time
 import unittest
 
 from drawn import HIGH, LOW, T, chain, web_pairs
-from plain import MeasureCase, drawn_chances, plain_shows
-from samples import FIGURES_60, odd_values, sample_webs
-from sixasone.cases import tree_of
+from plain import MeasureCase, drawn_chances, plain_chance, plain_is_tree, plain_shows, ratio
+from samples import FIGURES_60, LETTERS, odd_values, sample_webs
+from sixasone.cases import is_tree, mass, tree_of
 from sixasone.chances import Chance
 from sixasone.errors import BadValue, NoValue
 from sixasone.measures import Measure
@@ -118,6 +119,33 @@ class ChanceTest(MeasureCase):
             self.check_paper(Chance(), web, values)
         values = Values.two((), 0, Ratio(1, 2))
         self.same([str(Chance()(web, values)) for web in webs[:3]], ["7203/16384", "1/16384", "9181/16384"])
+
+    def test_rows_and_bunches_of_two(self):
+        pairs = [LETTERS[at:at + 2] for at in range(0, 14, 2)]
+        webs = [Web.row(*[Web.bunch(*pair) for pair in pairs]), Web.bunch(*[Web.row(*pair) for pair in pairs]),
+                Web.row(*[Web.bunch(*pair) for pair in pairs[:6]])]
+        thirds = Values.two((), 1, Ratio(1, 3))
+        unlike = Values({name: Ratio(at % 5, 4 + at // 5) for at, name in enumerate(LETTERS[:14])})
+        for web in webs:
+            tree = tree_of(web, web)
+            self.same([is_tree(web, web, tree), plain_is_tree(web, web, tree), tree_of(web, web)], [True, True, tree])
+            for values in (thirds, unlike):
+                number, paper = Chance()(web, values), Chance().paper_of(web, values)
+                self.same(number, ratio(plain_chance(web, values)))
+                self.same([Chance().shows(web, values, number, paper), Chance().shows(web, values, number, ("cases", tree)),
+                           plain_shows("chance", web, values, number, paper), mass(tree, values)], [True, True, True, number])
+                self.same(Chance().shows(web, values, number + Ratio(1, 3 ** 14), paper), False)
+        self.same([tree_of(webs[0], webs[1]), is_tree(webs[0], webs[1], tree_of(webs[0], webs[0])),
+                   is_tree(webs[0], webs[2], tree_of(webs[0], webs[2]))], [None, False, True])
+
+    def test_time(self):
+        pairs = [LETTERS[at:at + 2] for at in range(0, 14, 2)]
+        webs = [Web.row(*[Web.bunch(*pair) for pair in pairs]), Web.bunch(*[Web.row(*pair) for pair in pairs])]
+        begun = time.process_time()
+        for web in webs * 10:
+            number, paper = Chance()(web, HALVES), Chance().paper_of(web, HALVES)
+            self.same([Chance().shows(web, HALVES, number, paper), is_tree(web, web, tree_of(web, web))], [True, True])
+        self.assertTrue(time.process_time() - begun < 2)
 
     def test_webs_that_are_never_worse(self):
         for one, other in web_pairs(60):

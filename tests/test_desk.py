@@ -79,6 +79,13 @@ class WebLineTest(Case):
         self.same(desk.run("web w (b & (a & c))", "show w", "web w [3-x-0 1-y-3]", "show w", "web web web", "show web"),
                   ["ok", "(b & a & c)", "ok", "[0-x-3 1-y-3]", "ok", "web"])
 
+    def test_words_are_names(self):
+        desk = Desk()
+        self.same(desk.run("web flow (ease & web)", "show flow", "tell flow flow", "tell length flow", "web joined joined", "keep flow flow",
+                           "sure ease", "drop web", "put web none", "order flow joined", "why joined flow", "ways flow"),
+                  ["ok", "(ease & web)", "1", "2", "ok", "ok", "ok", "worse: ease web", "worse: ease web", "neither",
+                   "way joined / cut ease", "ease web"])
+
     def test_order(self):
         desk = desk_with("web same ((c | b) & a)", "web other (d | e)", "web always open", "web never shut")
         self.same(desk.run("order low high", "order high low", "order low same", "order low low", "order low other",

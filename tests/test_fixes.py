@@ -120,6 +120,16 @@ class ShowsLeastSureTest(Case):
         self.same([shows_least_sure(A, B, ("b",), more), shows_least_sure(A, B, ("a",), more), shows_least_sure(A, B, ("a",), [])],
                   [False, False, False])
 
+    def test_names_that_will_not_do(self):
+        # Each name ahead is told apart rightly, but these names are not enough either.
+        checked = 0
+        for one, other in drawn_pairs(60, 185):
+            _, reasons = least_sure(one, other)
+            for at, row in enumerate(reasons):
+                self.same(shows_least_sure(one, other, row[0], reasons[:at]), False)
+                checked += 1
+        self.assertTrue(checked > 40, checked)
+
     def test_all_other_ways_and_cuts(self):
         for one, other in drawn_pairs(24, 183):
             names, reasons = least_sure(one, other)

@@ -17,7 +17,7 @@ LIBRARY = {"math": {"gcd", "lcm", "isqrt", "comb", "perm", "factorial"},
            "heapq": {"heappush", "heappop", "heapify", "heapreplace", "heappushpop"}}
 METHODS = set("""append clear copy count endswith extend find get index insert isalnum isalpha isdigit islower isspace
 isupper items join keys ljust lower lstrip partition pop remove replace reverse rfind rjust rpartition rsplit rstrip
-setdefault split splitlines startswith strip update upper values zfill bit_length""".split())
+setdefault split splitlines startswith strip update upper values zfill bit_length isascii""".split())
 UNUSED = set("""register mro elements open input law version_info with_traceback add_note attrgetter breakpoint compile
 copyright credits delattr dir eval exec exit gc getattr globals hasattr help id importlib license locals methodcaller os
 quit setattr type vars sys""".split())
