@@ -174,7 +174,7 @@ class CarryStreamTest(Case):
         unlike = 0
         for one, other, tree in better_pairs(60, 81):
             self.assertTrue(plain_is_tree(one, other, tree))
-            for streams in drawn_streams(chance, one, 4):
+            for streams in drawn_streams(chance, one, 4) if len(one) < 7 else streams_of_walks(chance, one):
                 self.check(one, other, tree, streams)
                 self.check(one, other, tree, tuple(-part for part in streams))
             unlike += set(one.names) != set(other.names)
