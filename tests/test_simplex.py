@@ -138,7 +138,9 @@ class ShowsPackingTest(Case):
         columns, bounds = [(1, 0), (1, 0), (0, 1)], (1, 1)
         ones = (Ratio(1), Ratio(1))
         for weights, wanted in (((1, 0, 1), True), ((0, 1, 1), True), (((1, 2), (1, 2), 1), True), (((2, 3), (1, 3), 1), True),
-                                ((1, 1, 1), False), ((0, 0, 1), False), ((2, -1, 1), False), ((1, 0, (1, 2)), False)):
+                                ((1, 1, 1), False), ((0, 0, 1), False), ((2, -1, 1), False), ((1, 0, (1, 2)), False),
+                                # The sum is right, but more than the first or the last bound.
+                                ((2, 0, 0), False), ((1, 1, 0), False), ((0, 0, 2), False)):
             told = tuple(Ratio(*part) if isinstance(part, tuple) else Ratio(part) for part in weights)
             self.same(shows_packing(columns=columns, bounds=bounds, thing=(told, ones)), wanted)
         weights = (Ratio(1), Ratio(0), Ratio(1))

@@ -193,6 +193,10 @@ class SameNetTest(Case):
         self.same([same_net(Web.link("a"), Web.net([("a", 1, 0)])), same_net(Web.row("a", "b"), Web.row("b", "a")),
                    same_net(BRIDGE, CROSSED), same_net(BRIDGE, -BRIDGE), same_net(idle, Web.net([("a", 3, 3)])),
                    same_net(Web.net([("a", 0, 2)]), Web.net([("a", 1, 2)]))], [True, False, False, False, False, False])
+        # Loops at one of the ends alone.
+        link, near, far = Web.link("a"), Web.net([("a", 0, 1), ("l", 0, 0)]), Web.net([("a", 0, 1), ("l", 1, 1)])
+        self.same([same_net(one, other) for one in (link, near, far) for other in (link, near, far)],
+                  [True, False, False, False, True, False, False, False, True])
         # Several links between the same joints, and pieces of one form.
         self.same(same_net(Web.net([("a", 2, 3), ("b", 2, 3), ("c", 4, 5), ("d", 4, 5)]),
                            Web.net([("a", 4, 5), ("b", 4, 5), ("c", 2, 9), ("d", 2, 9)])), True)
